@@ -304,7 +304,7 @@ func TestClosureCounts(t *testing.T) {
 
 // P1.3: among the longest chains and antichains the smallest one is returned.
 func TestSmallestOfTheLongest(t *testing.T) {
-	// The longest chains are 3 0 5 and 3 1 5, 3 1 2 and 4 1 2, and 4 1 5.
+	// The longest chains are 3 0 5, 3 1 2, 3 1 5, 4 1 2 and 4 1 5.
 	r := relation(6, pair{3, 0}, pair{0, 5}, pair{3, 1}, pair{1, 5}, pair{1, 2}, pair{4, 1})
 	if l, e := Chain(r); !slices.Equal(l, []int{3, 0, 5}) || e != api.OK {
 		t.Error(l, e)
