@@ -6,6 +6,7 @@ import (
 	"testing"
 
 	"alibi/api"
+	"alibi/history"
 )
 
 // extremes are values around the ends of all ranges.
@@ -58,15 +59,24 @@ func wantNone(t *testing.T, types []int, l []api.Event) {
 	}
 }
 
-// wantError checks that both functions return the error and no more, whatever the witness is.
+// wantError checks that all functions return the error and no more, whatever the witness is.
 func wantError(t *testing.T, types []int, l []api.Event, want api.Errno) {
 	t.Helper()
 	if w, is, e := Find(types, l); w != nil || is || e != want {
 		t.Errorf("Find(%v, %v) = %v, %v, %d; want nil, false, %d", types, l, w, is, e, want)
 	}
+	if w, is, e := FindIn(types, l, api.Rel{}); w != nil || is || e != want {
+		t.Errorf("FindIn(%v, %v, {}) = %v, %v, %d; want nil, false, %d", types, l, w, is, e, want)
+	}
+	if calls, e := Calls(types, l); calls != nil || e != want {
+		t.Errorf("Calls(%v, %v) = %v, %d; want nil, %d", types, l, calls, e, want)
+	}
 	for _, w := range [][]api.Step{nil, {step(0, 0)}, {step(-1, 0)}, {step(99, 0)}, make([]api.Step, 10)} {
 		if is, e := Right(types, l, w); is || e != want {
 			t.Errorf("Right(%v, %v, %v) = %v, %d; want false, %d", types, l, w, is, e, want)
+		}
+		if is, e := RightIn(types, l, api.Rel{}, w); is || e != want {
+			t.Errorf("RightIn(%v, %v, {}, %v) = %v, %d; want false, %d", types, l, w, is, e, want)
 		}
 	}
 }
@@ -569,5 +579,50 @@ func TestHard(t *testing.T) {
 		l = append(l, end(3, 0, c.putResult))
 		l = append(l, whole(3, 0, c.get, c.getArg, c.getResult)...)
 		wantNone(t, []int{c.typ}, l)
+	}
+}
+
+// P5: Calls returns the operations of a history of up to 9 operations.
+func TestCalls(t *testing.T) {
+	types, l, _, _ := sample()
+	want, _, _ := history.Calls(types, l)
+	if calls, e := Calls(types, l); !slices.Equal(calls, want) || e != api.OK {
+		t.Errorf("Calls(%v, %v) = %v, %d; want %v, 0", types, l, calls, e, want)
+	}
+	nine := takeTurns(9, 3, 1)
+	want, _, _ = history.Calls(tickets(1), nine)
+	if calls, e := Calls(tickets(1), nine); len(calls) != 9 || !slices.Equal(calls, want) || e != api.OK {
+		t.Errorf("Calls(%v, %v) = %v, %d; want %v, 0", tickets(1), nine, calls, e, want)
+	}
+}
+
+// P5: another relation is in the place of the real-time order, with all other conditions as they are.
+func TestOtherOrders(t *testing.T) {
+	types := []int{api.TReg}
+	l := slices.Concat(whole(0, 0, api.KWrite, 5, 0), whole(1, 0, api.KRead, 0, 0), whole(2, 0, api.KRead, 0, 5))
+	for _, c := range []struct {
+		after [api.MaxItems]uint16
+		want  []api.Step
+	}{
+		{[api.MaxItems]uint16{}, []api.Step{step(1, 0), step(0, 0), step(2, 5)}},
+		{[api.MaxItems]uint16{1: 1 << 0}, []api.Step{step(1, 0), step(0, 0), step(2, 5)}},
+		{[api.MaxItems]uint16{1: 1<<0 | 1<<2}, []api.Step{step(1, 0), step(0, 0), step(2, 5)}},
+		{[api.MaxItems]uint16{0: 1 << 1}, nil},
+		{[api.MaxItems]uint16{2: 1 << 0}, nil},
+		{[api.MaxItems]uint16{2: 1 << 1}, nil},
+		{[api.MaxItems]uint16{0: 1 << 2, 2: 1 << 0}, nil},
+	} {
+		ahead := api.Rel{N: 3, After: c.after}
+		w, is, e := FindIn(types, l, ahead)
+		if !slices.Equal(w, c.want) || is != (c.want != nil) || e != api.OK {
+			t.Errorf("FindIn(%v, %v, %v) = %v, %v, %d; want %v", types, l, ahead, w, is, e, c.want)
+		}
+		is, e = RightIn(types, l, ahead, []api.Step{step(1, 0), step(0, 0), step(2, 5)})
+		if is != (c.want != nil) || e != api.OK {
+			t.Errorf("RightIn(%v, %v, %v, ...) = %v, %d", types, l, ahead, is, e)
+		}
+		if is, e := RightIn(types, l, ahead, []api.Step{step(1, 0), step(0, 0)}); is || e != api.OK {
+			t.Errorf("RightIn(%v, %v, %v, ...) = %v, %d", types, l, ahead, is, e)
+		}
 	}
 }
